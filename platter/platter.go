@@ -1,0 +1,34 @@
+// Package platter: a volume over several disks: see DOC.md.
+package platter
+
+import "platter/api"
+
+// Volume is a volume.
+type Volume struct{}
+
+// Open makes a volume over disks (P7).
+func Open(disks int, stripes int, fresh bool) (*Volume, api.Errno) { return nil, api.OK }
+
+// Commands tells the commands that have not been told yet (P8).
+func (v *Volume) Commands() []api.Command { return nil }
+
+// Done tells the volume what came of a command (P8).
+func (v *Volume) Done(id int, ok bool, data []byte) api.Errno { return api.OK }
+
+// Submit asks for something (P9).
+func (v *Volume) Submit(r api.Request) (int, api.Errno) { return 0, api.OK }
+
+// Results tells the results that have not been told yet (P9).
+func (v *Volume) Results() []api.Result { return nil }
+
+// State tells how the volume stands (P7, P13).
+func (v *Volume) State() int { return 0 }
+
+// Member tells how a disk stands (P11).
+func (v *Volume) Member(disk int) (int, api.Errno) { return 0, api.OK }
+
+// Fail tells the volume that a disk has failed (P11).
+func (v *Volume) Fail(disk int) api.Errno { return api.OK }
+
+// Replace tells the volume that a new disk stands in a failed one's place (P11).
+func (v *Volume) Replace(disk int) api.Errno { return api.OK }
