@@ -26,3 +26,14 @@ func Column(disks, stripe, disk int) int {
 func Sector(stripe int) int {
 	return api.Own + api.Block/api.Sector*stripe
 }
+
+// Block tells where a block lies.
+func Block(disks, block int) api.Place {
+	stripe, column := block/(disks-2), block%(disks-2)
+	return api.Place{
+		Stripe: stripe,
+		Column: column,
+		Disk:   Disk(disks, stripe, column),
+		Sector: Sector(stripe),
+	}
+}

@@ -46,3 +46,18 @@ func TestSector(t *testing.T) {
 		}
 	}
 }
+
+func TestBlock(t *testing.T) {
+	for disks := api.MinDisks; disks <= api.MaxDisks; disks++ {
+		block := 0
+		for stripe := range api.MaxStripes {
+			for column := range disks - 2 {
+				want := api.Place{Stripe: stripe, Column: column, Disk: Disk(disks, stripe, column), Sector: Sector(stripe)}
+				if got := Block(disks, block); got != want {
+					t.Errorf("P6: block %d of %d disks at %+v, want %+v", block, disks, got, want)
+				}
+				block++
+			}
+		}
+	}
+}

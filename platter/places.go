@@ -10,13 +10,7 @@ func Find(disks int, block int) (api.Place, api.Errno) {
 	if !between(disks, api.MinDisks, api.MaxDisks) || !between(block, 0, api.MaxStripes*(disks-2)-1) {
 		return api.Place{}, api.ErrArg
 	}
-	stripe, column := block/(disks-2), block%(disks-2)
-	return api.Place{
-		Stripe: stripe,
-		Column: column,
-		Disk:   layout.Disk(disks, stripe, column),
-		Sector: layout.Sector(stripe),
-	}, api.OK
+	return layout.Block(disks, block), api.OK
 }
 
 // Holds tells which column of a stripe lies on a disk (P6).

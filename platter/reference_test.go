@@ -95,18 +95,21 @@ func (n *numbers) columns(count int) [][]byte {
 	return columns
 }
 
+// withParity: the columns of the stripe that holds and has these data columns.
+func withParity(data [][]byte) [][]byte {
+	p, q := whole(0), whole(0)
+	for c, column := range data {
+		for place, b := range column {
+			p[place] ^= b
+			q[place] ^= counts(b, c)
+		}
+	}
+	return append(clone(data), p, q)
+}
+
 // holding: any stripe of so many columns that holds.
 func (n *numbers) holding(count int) [][]byte {
-	columns := n.columns(count)
-	for place := range api.Block {
-		var p, q byte
-		for c := range count - 2 {
-			p ^= columns[c][place]
-			q ^= counts(columns[c][place], c)
-		}
-		columns[count-2][place], columns[count-1][place] = p, q
-	}
-	return columns
+	return withParity(n.columns(count - 2))
 }
 
 // choices: every list of no, one or two different columns, in both orders.

@@ -11,6 +11,22 @@ import (
 // Column is an array, so that a copy of it shares nothing with whatever it was taken from.
 type Column [api.Block]byte
 
+// Sector is what a disk reads or writes at once: half a column.
+type Sector [api.Sector]byte
+
+// Split tells the two sectors of a column.
+func (c Column) Split() (Sector, Sector) {
+	return Sector(c[:api.Sector]), Sector(c[api.Sector:])
+}
+
+// Join tells the column of two sectors.
+func Join(first, second Sector) Column {
+	var column Column
+	copy(column[:], first[:])
+	copy(column[api.Sector:], second[:])
+	return column
+}
+
 // plus adds two columns, place by place.
 func plus(a, b Column) Column {
 	for i := range a {

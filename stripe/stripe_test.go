@@ -59,3 +59,17 @@ func TestLocateOfColumns(t *testing.T) {
 		}
 	}
 }
+
+func TestSplitAndJoin(t *testing.T) {
+	var column Column
+	for i := range column {
+		column[i] = byte(i + 1)
+	}
+	first, second := column.Split()
+	if first != (Sector{1, 2, 3, 4, 5, 6, 7, 8}) || second != (Sector{9, 10, 11, 12, 13, 14, 15, 16}) {
+		t.Errorf("Split = %v, %v", first, second)
+	}
+	if got := Join(first, second); got != column {
+		t.Errorf("Join = %v", got)
+	}
+}
