@@ -23,8 +23,11 @@ func newLife(t *testing.T, seed numbers, disks, stripes int) *life {
 	return l
 }
 
-// step submits something, if there is room, and lets some commands be done.
+// step submits something, if there is room, lets a disk fail or be replaced now and then, and lets some commands be done.
 func (l *life) step() {
+	if l.n.below(4) == 0 {
+		l.trouble(&l.n)
+	}
 	if l.request-len(l.results) < api.MaxRequests {
 		block := l.n.below(l.blocks())
 		switch l.n.below(4) {
@@ -94,11 +97,7 @@ func (l *life) wrongCalls() {
 			l.t.Fatalf("P9: Submit(%+v) = %d, %d", r, id, e)
 		}
 	}
-	for _, disk := range []int{least, -1, l.disks, most} {
-		if standing, e := l.v.Member(disk); standing != 0 || e != api.ErrArg {
-			l.t.Fatalf("P11: Member(%d) = %d, %d", disk, standing, e)
-		}
-	}
+	l.wrong()
 	if l.request-len(l.results) < api.MaxRequests {
 		return
 	}
@@ -144,6 +143,8 @@ func TestVolumeAnswersAreNewMemory(t *testing.T) {
 		}
 		lists = append(lists, c.Data)
 	}
+	b.fail(3)
+	b.replace(3)
 	b.rest()
 	for _, r := range b.results {
 		if len(r.Data) > 0 {

@@ -2,6 +2,8 @@ package platter_test
 
 import (
 	"bytes"
+	"fmt"
+	"runtime/debug"
 	"slices"
 	"testing"
 
@@ -24,8 +26,10 @@ type bench struct {
 	results        []api.Result      // all that were told
 	silent         bool              // Results are not asked for
 	state          int               // as it was last seen
+	stood          []int             // how the disks stood
 	since          int               // commands that were done since something came about
 	seen           func(api.Command) // is told each command
+	joined         func(disk int)    // is told each disk that has become Current
 }
 
 type order struct {
@@ -36,6 +40,7 @@ type order struct {
 type medium struct {
 	cells  []cell
 	failed bool
+	bare   bool // it has come later, and was not seen to be Current yet
 }
 
 // cell: a sector: what is safe of it, and what was written since, in the order in which it was done.
@@ -93,7 +98,6 @@ func newMedium(stripes int) medium {
 
 // newBench opens a volume over new disks, and does none of its commands yet.
 func newBench(t *testing.T, disks, stripes int, pick func([]order) int) *bench {
-	t.Helper()
 	b := &bench{t: t, disks: disks, stripes: stripes, pick: pick}
 	for range disks {
 		b.media = append(b.media, newMedium(stripes))
@@ -104,29 +108,34 @@ func newBench(t *testing.T, disks, stripes int, pick func([]order) int) *bench {
 
 // readyBench opens a volume over new disks, and lets it get ready.
 func readyBench(t *testing.T, disks, stripes int, pick func([]order) int) *bench {
-	t.Helper()
 	b := newBench(t, disks, stripes, pick)
 	b.ready()
 	return b
 }
 
-func (b *bench) open(fresh bool) {
+// broken ends the test, and tells the way there. (Helper, called at each command, would take most of the time.)
+func (b *bench) broken(format string, args ...any) {
 	b.t.Helper()
+	b.t.Fatalf("%s\n%s", fmt.Sprintf(format, args...), debug.Stack())
+}
+
+func (b *bench) open(fresh bool) {
 	v, e := platter.Open(b.disks, b.stripes, fresh)
 	if v == nil || e != api.OK {
-		b.t.Fatalf("P7: Open(%d, %d, %v): %d", b.disks, b.stripes, fresh, e)
+		b.broken("P7: Open(%d, %d, %v): %d", b.disks, b.stripes, fresh, e)
 	}
 	if state := v.State(); state != api.Opening {
-		b.t.Fatalf("P7: Open(%d, %d, %v): State %d", b.disks, b.stripes, fresh, state)
+		b.broken("P7: Open(%d, %d, %v): State %d", b.disks, b.stripes, fresh, state)
 	}
 	b.v, b.told, b.results, b.command, b.request, b.since, b.state = v, nil, nil, 0, 0, 0, api.Opening
+	b.stood = make([]int, b.disks) // all Current
+	b.look()
 }
 
 func (b *bench) ready() {
-	b.t.Helper()
 	b.rest()
 	if state := b.v.State(); state != api.Ready {
-		b.t.Fatalf("P7: %d disks, %d stripes: State %d, want Ready", b.disks, b.stripes, state)
+		b.broken("P7: %d disks, %d stripes: State %d, want Ready", b.disks, b.stripes, state)
 	}
 }
 
@@ -134,19 +143,17 @@ func (b *bench) blocks() int { return b.stripes * (b.disks - 2) }
 
 // tell asks for the commands.
 func (b *bench) tell() {
-	b.t.Helper()
 	b.look()
 	given := b.v.Commands()
 	b.take(given)
 	scribble(given)
 	if len(b.told) == 0 && b.waits() {
-		b.t.Fatalf("P14: something waits, and no command is told")
+		b.broken("P14: something waits, and no command is told")
 	}
 }
 
 // take lets commands that were told wait to be done.
 func (b *bench) take(given []api.Command) {
-	b.t.Helper()
 	b.moment++
 	for _, c := range given {
 		b.command++
@@ -158,16 +165,15 @@ func (b *bench) take(given []api.Command) {
 		b.told = append(b.told, order{c, b.moment})
 	}
 	if len(b.told) > api.MaxCommands {
-		b.t.Fatalf("P8: %d commands are given and not done", len(b.told))
+		b.broken("P8: %d commands are given and not done", len(b.told))
 	}
 	if len(given) > 0 && b.v.State() == api.Failed {
-		b.t.Fatalf("P13: State is Failed, and there are the commands %v", given)
+		b.broken("P13: State is Failed, and there are the commands %v", given)
 	}
 }
 
 // held holds a command to P8.
 func (b *bench) held(c api.Command) {
-	b.t.Helper()
 	ok := c.Id == b.command && c.Disk >= 0 && c.Disk < b.disks && c.Sector >= 0 && c.Sector < api.Own+2*b.stripes
 	switch c.Kind {
 	case api.ReadSector:
@@ -180,10 +186,10 @@ func (b *bench) held(c api.Command) {
 		ok = false
 	}
 	if !ok {
-		b.t.Fatalf("P8: the command %+v, of %d disks with %d stripes, behind Id %d", c, b.disks, b.stripes, b.command-1)
+		b.broken("P8: the command %+v, of %d disks with %d stripes, behind Id %d", c, b.disks, b.stripes, b.command-1)
 	}
 	if standing, _ := b.v.Member(c.Disk); standing == api.Gone {
-		b.t.Fatalf("P8: the command %+v is for a disk that has failed", c)
+		b.broken("P8: the command %+v is for a disk that has failed", c)
 	}
 }
 
@@ -201,12 +207,11 @@ func scribble(given []api.Command) {
 
 // waits tells whether something waits.
 func (b *bench) waits() bool {
-	return !b.silent && (b.v.State() == api.Opening || len(b.results) < b.request)
+	return b.state == api.Opening || !b.silent && len(b.results) < b.request || b.state == api.Ready && slices.Contains(b.stood, api.Rebuilding)
 }
 
 // do lets a disk do the k-th of the commands that were told.
 func (b *bench) do(k int) {
-	b.t.Helper()
 	o := b.told[k]
 	b.told = slices.Delete(b.told, k, k+1)
 	b.moment++
@@ -221,13 +226,16 @@ func (b *bench) do(k int) {
 	was := bytes.Clone(room)
 	m.do(o, b.moment)
 	if e := b.v.Done(o.Id, !m.failed, data); e != api.OK {
-		b.t.Fatalf("P8: Done of %+v: %d", o.Command, e)
+		b.broken("P8: Done of %+v: %d", o.Command, e)
 	}
 	if !bytes.Equal(room, was) {
-		b.t.Fatalf("P2: Done has written into what was handed in: %v, it was %v", room, was)
+		b.broken("P2: Done has written into what was handed in: %v, it was %v", room, was)
 	}
 	clear(room)
 	b.since++
+	if m.failed {
+		b.stood[o.Disk] = api.Gone
+	}
 	b.look()
 }
 
@@ -247,28 +255,84 @@ func (m *medium) do(o order, moment int) {
 
 // look sees what has come about.
 func (b *bench) look() {
-	b.t.Helper()
 	if b.since > 400 {
-		b.t.Fatalf("P14: %d commands were done, and nothing came about", b.since)
+		b.broken("P14: %d commands were done, and nothing came about", b.since)
 	}
-	if state := b.v.State(); state != b.state {
-		b.state, b.since = state, 0
-	}
+	b.lookAtDisks()
+	b.lookAtState()
 	if b.silent {
 		return
 	}
 	for _, r := range b.v.Results() {
 		if r.Id != len(b.results)+1 || r.Id > b.request {
-			b.t.Fatalf("P9: the result %+v behind those of %d requests out of %d", r, len(b.results), b.request)
+			b.broken("P9: the result %+v behind those of %d requests out of %d", r, len(b.results), b.request)
 		}
 		b.results = append(b.results, r)
 		b.since = 0
 	}
 }
 
+// lookAtDisks holds the disks to P11: they are as they were said to be, but that the volume may find a disk new, and may fill one.
+func (b *bench) lookAtDisks() {
+	for disk, standing := range b.standings() {
+		was := b.stood[disk]
+		b.stood[disk] = standing
+		switch {
+		case standing == was:
+		case was == api.Rebuilding && standing == api.Current && b.state == api.Ready:
+			b.since = 0
+			if b.joined != nil {
+				b.joined(disk)
+			}
+		case was == api.Current && standing == api.Rebuilding && b.state == api.Opening:
+		default:
+			b.broken("P11: Member(%d) is %d, it was %d; State was %d", disk, standing, was, b.state)
+		}
+	}
+}
+
+// lookAtState holds it to P13.
+func (b *bench) lookAtState() {
+	state := b.v.State()
+	for disk, standing := range b.stood {
+		if state == api.Ready && standing == api.Current {
+			b.media[disk].bare = false
+		}
+	}
+	if lost := b.lost(); (lost > 2) != (state == api.Failed) {
+		b.broken("P13: State is %d, and %d disks are not Current", state, lost)
+	}
+	if state != b.state && (b.state != api.Opening && state != api.Failed || state == api.Opening) {
+		b.broken("P7, P13: State is %d, it was %d", state, b.state)
+	}
+	if state != b.state {
+		b.state, b.since = state, 0
+	}
+}
+
+// standings tells how all disks stand.
+func (b *bench) standings() []int {
+	var all []int
+	for disk := range b.disks {
+		standing, _ := b.v.Member(disk)
+		all = append(all, standing)
+	}
+	return all
+}
+
+// lost tells how many disks are not Current.
+func (b *bench) lost() int {
+	lost := 0
+	for _, standing := range b.stood {
+		if standing != api.Current {
+			lost++
+		}
+	}
+	return lost
+}
+
 // rest lets all be done.
 func (b *bench) rest() {
-	b.t.Helper()
 	for b.tell(); len(b.told) > 0; b.tell() {
 		b.do(b.pick(b.told))
 	}
@@ -276,7 +340,6 @@ func (b *bench) rest() {
 
 // some lets so many commands be done, if there are as many.
 func (b *bench) some(commands int) {
-	b.t.Helper()
 	for range commands {
 		if b.tell(); len(b.told) > 0 {
 			b.do(b.pick(b.told))
@@ -284,18 +347,54 @@ func (b *bench) some(commands int) {
 	}
 }
 
+// fail says that a disk has failed, and lets it do nothing any more.
+func (b *bench) fail(disk int) {
+	b.media[disk].failed = true
+	if e := b.v.Fail(disk); e != api.OK {
+		b.broken("P11: Fail(%d) = %d", disk, e)
+	}
+	b.stood[disk], b.since = api.Gone, 0
+	b.look()
+}
+
+func (b *bench) renewMedium(disk int) {
+	b.media[disk] = newMedium(b.stripes)
+	b.media[disk].bare = true
+}
+
+// replace sets a new disk into the place of one that is Gone.
+func (b *bench) replace(disk int) {
+	b.renewMedium(disk)
+	if e := b.v.Replace(disk); e != api.OK {
+		b.broken("P11: Replace(%d) = %d", disk, e)
+	}
+	b.stood[disk], b.since = api.Rebuilding, 0
+	b.look()
+}
+
+// awaits tells whether a command that was told for a disk is not done.
+func (b *bench) awaits(disk int) bool {
+	return slices.ContainsFunc(b.told, func(o order) bool { return o.Disk == disk })
+}
+
+// doAll lets a disk do all that it was told, and tells nothing new.
+func (b *bench) doAll(disk int) {
+	for b.awaits(disk) {
+		b.do(slices.IndexFunc(b.told, func(o order) bool { return o.Disk == disk }))
+	}
+}
+
 // submit asks for something that there is.
 func (b *bench) submit(kind, number int, data []byte) {
-	b.t.Helper()
 	room := append(bytes.Clone(data), 211, 212, 213)
 	was := bytes.Clone(room)
 	b.request++
 	b.since = 0
 	if id, e := b.v.Submit(api.Request{Kind: kind, Number: number, Data: room[:len(data)]}); id != b.request || e != api.OK {
-		b.t.Fatalf("P9: Submit(%d, %d, %v) = %d, %d, want %d", kind, number, data, id, e, b.request)
+		b.broken("P9: Submit(%d, %d, %v) = %d, %d, want %d", kind, number, data, id, e, b.request)
 	}
 	if !bytes.Equal(room, was) {
-		b.t.Fatalf("P2: Submit has written into what was handed in: %v, it was %v", room, was)
+		b.broken("P2: Submit has written into what was handed in: %v, it was %v", room, was)
 	}
 	clear(room)
 	b.look()
@@ -303,7 +402,6 @@ func (b *bench) submit(kind, number int, data []byte) {
 
 // ask submits a request, lets it be carried out, and tells its result.
 func (b *bench) ask(kind, number int, data []byte) api.Result {
-	b.t.Helper()
 	b.submit(kind, number, data)
 	b.rest()
 	return b.results[len(b.results)-1]
@@ -311,41 +409,43 @@ func (b *bench) ask(kind, number int, data []byte) api.Result {
 
 // write carries out a Write.
 func (b *bench) write(block int, data []byte) {
-	b.t.Helper()
 	b.plain(b.ask(api.Write, block, data))
+}
+
+// change writes any block anew.
+func (b *bench) change(n *numbers, blocks [][]byte) {
+	block := n.below(len(blocks))
+	blocks[block] = n.block()
+	b.write(block, blocks[block])
 }
 
 // plain holds a result to what that of a Write or a Flush is.
 func (b *bench) plain(r api.Result) {
-	b.t.Helper()
 	if r.E != api.OK || len(r.Data) != 0 || r.Verdict != 0 || r.Column != 0 {
-		b.t.Fatalf("P9: the result %+v, want OK and nothing else", r)
+		b.broken("P9: the result %+v, want OK and nothing else", r)
 	}
 }
 
 // read carries out a Read, and tells the block.
 func (b *bench) read(block int) []byte {
-	b.t.Helper()
 	r := b.ask(api.Read, block, nil)
 	if r.E != api.OK || len(r.Data) != api.Block || r.Verdict != 0 || r.Column != 0 {
-		b.t.Fatalf("P9: the result of a Read: %+v", r)
+		b.broken("P9: the result of a Read: %+v", r)
 	}
 	return r.Data
 }
 
 // reads holds all blocks to what they should be.
 func (b *bench) reads(want [][]byte) {
-	b.t.Helper()
 	for block := range want {
 		if got := b.read(block); !bytes.Equal(got, want[block]) {
-			b.t.Fatalf("P9: %d disks: block %d is %v, want %v", b.disks, block, got, want[block])
+			b.broken("P9: %d disks: block %d is %v, want %v", b.disks, block, got, want[block])
 		}
 	}
 }
 
 // fill writes all blocks, and flushes them.
 func (b *bench) fill(n *numbers) [][]byte {
-	b.t.Helper()
 	blocks := n.columns(b.blocks())
 	for block := range blocks {
 		b.write(block, blocks[block])
@@ -362,7 +462,6 @@ func (b *bench) column(stripe, disk int) []byte {
 
 // stripesHold holds the disks that are current, at rest, to stripes that hold and have these blocks.
 func (b *bench) stripesHold(blocks [][]byte) {
-	b.t.Helper()
 	for stripe := range b.stripes {
 		columns := withParity(blocks[stripe*(b.disks-2):][:b.disks-2])
 		for disk := range b.disks {
@@ -371,9 +470,16 @@ func (b *bench) stripesHold(blocks [][]byte) {
 			}
 			column, _ := platter.Holds(b.disks, stripe, disk)
 			if got := b.column(stripe, disk); !bytes.Equal(got, columns[column]) {
-				b.t.Fatalf("P11: %d disks, stripe %d: column %d is %v, want %v", b.disks, stripe, column, got, columns[column])
+				b.broken("P11: %d disks, stripe %d: column %d is %v, want %v", b.disks, stripe, column, got, columns[column])
 			}
 		}
+	}
+}
+
+// sure forgets of a disk all that is not safe.
+func (b *bench) sure(disk int) {
+	for s := range b.media[disk].cells {
+		b.media[disk].cells[s].later = nil
 	}
 }
 
@@ -408,6 +514,17 @@ func sizes(call func(disks, stripes int)) {
 	for disks := api.MinDisks; disks <= api.MaxDisks; disks++ {
 		for _, stripes := range []int{1, 2, 6} {
 			call(disks, stripes)
+		}
+	}
+}
+
+// pairs calls with every number of disks, and every two of them, and each one twice.
+func pairs(call func(disks, one, two int)) {
+	for disks := api.MinDisks; disks <= api.MaxDisks; disks++ {
+		for one := range disks {
+			for two := range disks {
+				call(disks, one, two)
+			}
 		}
 	}
 }

@@ -90,12 +90,12 @@ func (x *tried) want() {
 	case 1:
 		x.submit(api.Read, block, nil)
 	default:
-		x.change(block)
+		x.submitWrite(block)
 	}
 }
 
-// change submits a Write.
-func (x *tried) change(block int) {
+// submitWrite submits a Write, and keeps in mind that it may outlast a crash.
+func (x *tried) submitWrite(block int) {
 	x.t.Helper()
 	data := x.n.block()
 	x.submit(api.Write, block, data)
@@ -180,7 +180,7 @@ func TestCrashTwice(t *testing.T) {
 		x := newTried(newBench(t, 4, 1, anyOf(&n)), &n)
 		x.settle()
 		x.memory.sure = x.fill(&n)
-		x.change(n.below(2))
+		x.submitWrite(n.below(2))
 		x.some(n.below(80))
 		x.again()
 		x.some(n.below(80))
@@ -189,25 +189,6 @@ func TestCrashTwice(t *testing.T) {
 		x.media[one].failed = true
 		x.media[(one+1+n.below(3))%4].failed = true
 		x.settle()
-	}
-}
-
-// TestNewDisks: disks that were replaced by new ones have nothing yet, and are not taken for others.
-func TestNewDisks(t *testing.T) {
-	var n numbers
-	for disks := 4; disks <= 8; disks++ {
-		for one := range disks {
-			for two := range disks {
-				x := newTried(newBench(t, disks, 2, anyOf(&n)), &n)
-				x.settle()
-				x.memory.sure = x.fill(&n)
-				x.again()
-				x.media[one], x.media[two] = newMedium(2), newMedium(2)
-				x.settle()
-				x.memory.sure = x.fill(&n)
-				x.settle()
-			}
-		}
 	}
 }
 

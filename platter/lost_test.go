@@ -7,40 +7,24 @@ import (
 	"platter/api"
 )
 
-// standings tells how all disks stand.
-func (b *bench) standings() []int {
-	var all []int
-	for disk := range b.disks {
-		standing, _ := b.v.Member(disk)
-		all = append(all, standing)
-	}
-	return all
-}
-
 // TestDoneNotOk: behind a Done that is not ok the disk is gone; with two of them gone all blocks are read and written.
 func TestDoneNotOk(t *testing.T) {
 	var n numbers
-	for disks := 4; disks <= 8; disks++ {
-		for one := range disks {
-			for two := range disks {
-				b := readyBench(t, disks, 2, anyOf(&n))
-				blocks := b.fill(&n)
-				for _, disk := range []int{one, two} {
-					b.media[disk].failed = true
-					block := n.below(len(blocks))
-					blocks[block] = n.block()
-					b.write(block, blocks[block])
-					b.reads(blocks)
-					b.stripesHold(blocks)
-				}
-				for disk, standing := range b.standings() {
-					if (standing == api.Gone) != (disk == one || disk == two) {
-						t.Fatalf("P11: disks %d and %d have failed: Member(%d) = %d", one, two, disk, standing)
-					}
-				}
+	pairs(func(disks, one, two int) {
+		b := readyBench(t, disks, 2, anyOf(&n))
+		blocks := b.fill(&n)
+		for _, disk := range []int{one, two} {
+			b.lose(disk, true)
+			b.change(&n, blocks)
+			b.reads(blocks)
+			b.stripesHold(blocks)
+		}
+		for disk, standing := range b.standings() {
+			if (standing == api.Gone) != (disk == one || disk == two) {
+				t.Fatalf("P11: disks %d and %d have failed: Member(%d) = %d", one, two, disk, standing)
 			}
 		}
-	}
+	})
 }
 
 // TestLostOnTheWay: disks that fail at any moment, of the opening too, harm no block.
@@ -70,24 +54,82 @@ func TestLostOnTheWay(t *testing.T) {
 func TestFailed(t *testing.T) {
 	var n numbers
 	for steps := range 200 {
-		b := newBench(t, 4+n.below(5), 1, anyOf(&n))
-		for range api.MaxRequests {
-			b.submit(api.Write, n.below(b.blocks()), n.block())
-		}
-		b.some(steps)
-		for _, disk := range []int{0, 1, 3} {
-			b.media[disk].failed = true
-		}
-		had := 0
-		for b.v.State() != api.Failed {
-			had = len(b.results)
+		for _, quiet := range []bool{false, true} {
+			b := newBench(t, 4+n.below(5), 1, anyOf(&n))
+			for range api.MaxRequests {
+				b.submit(api.Write, n.below(b.blocks()), n.block())
+			}
+			b.some(steps)
 			b.tell()
-			b.do(b.pick(b.told))
-		}
-		b.failed(had)
-		for len(b.told) > 0 {
-			b.do(b.pick(b.told))
+			had := len(b.results)
+			for _, disk := range []int{0, 1, 3} {
+				b.lose(disk, quiet)
+			}
+			for b.v.State() != api.Failed {
+				had = len(b.results)
+				b.tell()
+				b.do(b.pick(b.told))
+			}
 			b.failed(had)
+			for len(b.told) > 0 {
+				b.do(b.pick(b.told))
+				b.failed(had)
+			}
+			b.stays(had)
+		}
+	}
+}
+
+// stays lets all disks of a volume that has failed fail and be replaced: it is failed.
+func (b *bench) stays(had int) {
+	for disk := range b.media {
+		b.wrong()
+		b.lose(disk, false)
+		b.failed(had)
+		b.replace(disk)
+		b.failed(had)
+		b.wrong()
+	}
+	b.rest()
+	b.failed(had)
+	for disk, standing := range b.stood {
+		if standing != api.Rebuilding {
+			b.t.Fatalf("P11, P13: Member(%d) of a volume that has failed: %d", disk, standing)
+		}
+	}
+}
+
+// TestFailedAtTheOpening: three disks that are new, or have failed, are one too many.
+func TestFailedAtTheOpening(t *testing.T) {
+	var n numbers
+	for disks := 4; disks <= 8; disks++ {
+		for bare := range 4 {
+			for moment := range 12 {
+				b := readyBench(t, disks, 1, anyOf(&n))
+				b.fill(&n)
+				b.crash(&n)
+				b.open(false)
+				first := n.below(disks)
+				for i := range bare {
+					b.renewMedium((first + i) % disks)
+				}
+				for range api.MaxRequests {
+					b.submit(api.Write, 0, n.block())
+				}
+				b.some(moment)
+				for i := bare; i < 3; i++ {
+					b.lose((first+i)%disks, n.below(2) == 0)
+				}
+				b.rest()
+				had := len(b.results)
+				for had > 0 && b.results[had-1].E == api.ErrFailed {
+					had--
+				}
+				b.failed(had)
+				if moment < disks && had > 0 {
+					t.Fatalf("P13: %d disks, three not Current from the start: %d results", disks, had)
+				}
+			}
 		}
 	}
 }
@@ -135,15 +177,26 @@ func TestAnyAnswer(t *testing.T) {
 		}
 		b.open(round%2 == 0)
 		b.rest()
-		for b.v.State() == api.Ready && b.request < 12 {
+		for b.v.State() == api.Ready && b.request < 24 {
+			if b.request-len(b.results) > 3 {
+				b.rest()
+				continue
+			}
 			b.submit(api.Read, n.below(b.blocks()), nil)
 			b.submit(api.Write, n.below(b.blocks()), n.block())
 			b.submit(api.Scrub, n.below(b.stripes), nil)
 			b.some(n.below(40))
-			if n.below(4) == 0 {
-				b.media[n.below(b.disks)].failed = true
+			disk := n.below(b.disks)
+			switch {
+			case b.stood[disk] == api.Gone && !b.awaits(disk):
+				b.replace(disk)
+			case n.below(3) == 0:
+				b.lose(disk, n.below(2) == 0)
 			}
-			b.rest()
+			b.some(n.below(100))
+			if n.below(2) == 0 {
+				b.rest()
+			}
 		}
 	}
 }

@@ -38,7 +38,7 @@ func (v *Volume) State() int { return v.inner.State() }
 func (v *Volume) Member(disk int) (int, api.Errno) { return v.inner.Member(disk) }
 
 // Fail tells the volume that a disk has failed (P11).
-func (v *Volume) Fail(disk int) api.Errno { return api.OK }
+func (v *Volume) Fail(disk int) api.Errno { return v.inner.Fail(disk) }
 
 // Replace tells the volume that a new disk stands in a failed one's place (P11).
-func (v *Volume) Replace(disk int) api.Errno { return api.OK }
+func (v *Volume) Replace(disk int) api.Errno { return v.inner.Replace(disk) }

@@ -117,11 +117,15 @@ type awaited struct {
 }
 
 // play submits requests of all kinds, so many, while others wait, and holds the results to what they should be.
-func play(b *bench, n *numbers, count int) [][]byte {
+// Between them it calls; if that harms disks, it may be that a Scrub can't be carried out.
+func play(b *bench, n *numbers, count int, between func()) [][]byte {
 	b.t.Helper()
 	blocks := blank(b.blocks())
+	harmed := false
 	var want []awaited
 	for range count {
+		between()
+		harmed = harmed || b.lost() > 0
 		for b.request-len(b.results) == api.MaxRequests {
 			b.some(1)
 		}
@@ -146,6 +150,9 @@ func play(b *bench, n *numbers, count int) [][]byte {
 	b.rest()
 	for i, w := range want {
 		r := b.results[i]
+		if harmed && w.kind == api.Scrub && r.E == api.ErrDegraded {
+			r.E = api.OK
+		}
 		if r.Id != i+1 || r.E != api.OK || !bytes.Equal(r.Data, w.data) || r.Verdict != api.Clean || r.Column != 0 {
 			b.t.Fatalf("P9: the result %+v of a request of kind %d, want the Data %v", r, w.kind, w.data)
 		}
@@ -164,7 +171,7 @@ func TestOrder(t *testing.T) {
 	sizes(func(disks, stripes int) {
 		for _, pick := range picks(&n) {
 			b := newBench(t, disks, stripes, pick)
-			blocks := play(b, &n, 40)
+			blocks := play(b, &n, 40, func() {})
 			b.stripesHold(blocks)
 			b.reads(blocks)
 		}
@@ -232,9 +239,7 @@ func TestFlush(t *testing.T) {
 			}
 			b.plain(b.ask(api.Flush, 0, nil))
 			for disk := range b.media {
-				for s := range b.media[disk].cells {
-					b.media[disk].cells[s].later = nil
-				}
+				b.sure(disk)
 			}
 			b.stripesHold(blocks)
 			b.reads(blocks)

@@ -44,9 +44,7 @@ func TestScrubRepairs(t *testing.T) {
 				b.spoil(stripe, disk, n.below(api.Block))
 				b.seen = nil
 				b.scrubs(stripe, api.OK, api.Repaired, column)
-				for s := range b.media[disk].cells {
-					b.media[disk].cells[s].later = nil
-				}
+				b.sure(disk)
 				b.stripesHold(blocks)
 				b.noWrites()
 				b.scrubs(stripe, api.OK, api.Clean, 0)

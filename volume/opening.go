@@ -34,7 +34,7 @@ func (o *opening) makeLabelsSafe() {
 func (o *opening) lookAtLabels() {
 	for _, disk := range o.volume.current() {
 		if !o.label(disk).Member {
-			o.volume.degrade(disk, api.Rebuilding)
+			o.volume.rebuild(disk)
 		}
 	}
 	if o.volume.state != api.Failed {

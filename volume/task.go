@@ -14,6 +14,8 @@ type task interface {
 	begin()
 	// hear keeps what a disk has read.
 	hear(at spot, sector stripe.Sector)
+	// miss is told of a disk that has failed.
+	miss(disk int)
 	// goOn takes the next step, when the disks have answered; false if there is none.
 	goOn() bool
 }
@@ -33,6 +35,9 @@ type work struct {
 func (w *work) hear(at spot, sector stripe.Sector) {
 	w.heard[at] = sector
 }
+
+// miss: what is left of a task goes on without the disk.
+func (w *work) miss(disk int) {}
 
 func (w *work) goOn() bool {
 	next := w.next

@@ -1,7 +1,8 @@
 // Package volume: a volume and what it is at.
 //
-// A volume is at one task at a time: it is opened, or carries out the first request that waits. A task goes
-// step by step: a step gives commands for the disks, and the next one is taken when all of these are done.
+// A volume is at one task at a time: it is opened, or carries out the first request that waits, or fills a stripe
+// of a new disk. A task goes step by step: a step gives commands for the disks, and the next one is taken when all
+// of these are done.
 package volume
 
 import (
@@ -26,6 +27,9 @@ type Volume struct {
 	requests    queue.Ring[request] // whose results have not come about
 	results     queue.Ring[api.Result]
 	lastRequest int
+
+	fillings  queue.Ring[*filling] // of disks that are Rebuilding
+	fillFirst bool                 // it is the turn of a filling
 }
 
 // Open makes a volume of numbers that there may be, and begins to open it.
@@ -44,14 +48,6 @@ func (v *Volume) State() int {
 	return v.state
 }
 
-// Member tells how a disk stands.
-func (v *Volume) Member(disk int) (int, api.Errno) {
-	if disk < 0 || disk >= v.disks() {
-		return 0, api.ErrArg
-	}
-	return v.standing[disk], api.OK
-}
-
 func (v *Volume) disks() int {
 	return len(v.standing)
 }
@@ -60,49 +56,10 @@ func (v *Volume) blocks() int {
 	return v.stripes * (v.disks() - 2)
 }
 
-func (v *Volume) isCurrent(disk int) bool {
-	return v.standing[disk] == api.Current
-}
-
-// current tells the disks that are current.
-func (v *Volume) current() []int {
-	var disks []int
-	for disk := range v.standing {
-		if v.isCurrent(disk) {
-			disks = append(disks, disk)
-		}
-	}
-	return disks
-}
-
-// degrade sets down that a disk is not current any more.
-func (v *Volume) degrade(disk, standing int) {
-	v.standing[disk] = standing
-	if len(v.current()) < v.disks()-2 {
-		v.fail()
-	}
-}
-
-// lose sets down that a disk has failed. What was not told yet for it is not told any more.
-func (v *Volume) lose(disk int) {
-	v.waiting.Keep(func(command api.Command) bool { return command.Disk != disk })
-	v.degrade(disk, api.Gone)
-}
-
-// fail ends all: what waits has its result, and nothing more is asked of the disks.
-func (v *Volume) fail() {
-	v.state = api.Failed
-	v.at = nil
-	v.waiting = queue.Ring[api.Command]{}
-	for v.requests.Len() > 0 {
-		v.finish(api.Result{E: api.ErrFailed})
-	}
-}
-
 // run takes steps until the disks have something to answer, or there is nothing to do.
 func (v *Volume) run() {
 	for v.state != api.Failed && v.waiting.Len() == 0 && len(v.told) == 0 {
-		if v.at == nil && v.requests.Len() == 0 {
+		if v.at == nil && v.requests.Len() == 0 && v.fillings.Len() == 0 {
 			return
 		}
 		if v.at == nil {
@@ -118,8 +75,19 @@ func (v *Volume) start(t task) {
 	t.begin()
 }
 
-// choose tells the task that carries out the first request that waits.
+// choose tells what comes next of what waits. Requests and fillings take turns: neither keeps the other from its end.
 func (v *Volume) choose() task {
+	fill := v.fillings.Len() > 0 && (v.fillFirst || v.requests.Len() == 0)
+	v.fillFirst = !fill
+	if fill {
+		f, _ := v.fillings.Take()
+		return f
+	}
+	return v.firstRequest()
+}
+
+// firstRequest tells the task that carries out the first request that waits.
+func (v *Volume) firstRequest() task {
 	r, _ := v.requests.First()
 	switch r.kind {
 	case api.Read:
