@@ -23,9 +23,12 @@ type bench struct {
 	moment         int               // counts what is told and done
 	command        int               // the Id of the last command that was told
 	request        int               // the Id of the last request that was submitted
+	kinds          []int             // of the requests that were submitted
 	results        []api.Result      // all that were told
 	silent         bool              // Results are not asked for
 	state          int               // as it was last seen
+	once           bool              // a volume over these disks has been Ready
+	spoiled        bool              // a disk has changed a column by itself
 	stood          []int             // how the disks stood
 	since          int               // commands that were done since something came about
 	seen           func(api.Command) // is told each command
@@ -127,7 +130,7 @@ func (b *bench) open(fresh bool) {
 	if state := v.State(); state != api.Opening {
 		b.broken("P7: Open(%d, %d, %v): State %d", b.disks, b.stripes, fresh, state)
 	}
-	b.v, b.told, b.results, b.command, b.request, b.since, b.state = v, nil, nil, 0, 0, 0, api.Opening
+	b.v, b.told, b.kinds, b.results, b.command, b.request, b.since, b.state = v, nil, nil, nil, 0, 0, 0, api.Opening
 	b.stood = make([]int, b.disks) // all Current
 	b.look()
 }
@@ -274,8 +277,8 @@ func (b *bench) look() {
 
 // lookAtDisks holds the disks to P11: they are as they were said to be, but that the volume may find a disk new, and may fill one.
 func (b *bench) lookAtDisks() {
-	for disk, standing := range b.standings() {
-		was := b.stood[disk]
+	for disk, was := range b.stood {
+		standing, _ := b.v.Member(disk)
 		b.stood[disk] = standing
 		switch {
 		case standing == was:
@@ -294,6 +297,7 @@ func (b *bench) lookAtDisks() {
 // lookAtState holds it to P13.
 func (b *bench) lookAtState() {
 	state := b.v.State()
+	b.once = b.once || state == api.Ready
 	for disk, standing := range b.stood {
 		if state == api.Ready && standing == api.Current {
 			b.media[disk].bare = false
@@ -389,6 +393,7 @@ func (b *bench) submit(kind, number int, data []byte) {
 	room := append(bytes.Clone(data), 211, 212, 213)
 	was := bytes.Clone(room)
 	b.request++
+	b.kinds = append(b.kinds, kind)
 	b.since = 0
 	if id, e := b.v.Submit(api.Request{Kind: kind, Number: number, Data: room[:len(data)]}); id != b.request || e != api.OK {
 		b.broken("P9: Submit(%d, %d, %v) = %d, %d, want %d", kind, number, data, id, e, b.request)
@@ -483,8 +488,45 @@ func (b *bench) sure(disk int) {
 	}
 }
 
+// keep tells which of so many a sector keeps at a crash: 0 is what was safe, then what was written since, done or told.
+type keep func(disk, sector, count int) int
+
+func anything(n *numbers) keep {
+	return func(_, _, count int) int { return n.below(count) }
+}
+
+// keeps: what a crash may leave of what was not safe.
+func keeps(n *numbers) []keep {
+	one := n.below(api.MinDisks)
+	return []keep{
+		anything(n),
+		func(_, _, _ int) int { return 0 },
+		func(_, _, count int) int { return count - 1 },
+		// One disk was quicker than the others, or slower.
+		func(disk, _, count int) int {
+			if disk == one {
+				return count - 1
+			}
+			return 0
+		},
+		func(disk, _, count int) int {
+			if disk == one {
+				return 0
+			}
+			return count - 1
+		},
+		// Every column, and all that takes more than one sector, is torn.
+		func(_, sector, count int) int { return sector % 2 * (count - 1) },
+		func(_, sector, count int) int { return (sector + 1) % 2 * (count - 1) },
+	}
+}
+
 // crash ends the volume, and leaves of each sector whatever a crash may leave.
 func (b *bench) crash(n *numbers) {
+	b.crashKeeping(anything(n))
+}
+
+func (b *bench) crashKeeping(keeps keep) {
 	for disk := range b.media {
 		for s := range b.media[disk].cells {
 			c := &b.media[disk].cells[s]
@@ -497,7 +539,7 @@ func (b *bench) crash(n *numbers) {
 					left = append(left, o.Data)
 				}
 			}
-			*c = cell{safe: left[n.below(len(left))]}
+			*c = cell{safe: left[keeps(disk, s, len(left))]}
 		}
 	}
 	b.v, b.told = nil, nil

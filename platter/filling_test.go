@@ -245,12 +245,6 @@ func TestFoundNew(t *testing.T) {
 func (b *bench) trouble(n *numbers) {
 	b.t.Helper()
 	disk := n.below(b.disks)
-	harmed := 0
-	for i := range b.media {
-		if b.media[i].failed || b.media[i].bare || b.stood[i] != api.Current {
-			harmed++
-		}
-	}
 	switch {
 	case b.stood[disk] == api.Gone:
 		if !b.awaits(disk) {
@@ -258,7 +252,7 @@ func (b *bench) trouble(n *numbers) {
 		}
 	case b.media[disk].failed:
 		b.fail(disk)
-	case harmed < 2 || b.media[disk].bare:
+	case b.harmed() < 2 || b.media[disk].bare:
 		b.lose(disk, n.below(2) == 0)
 	}
 }
@@ -282,44 +276,12 @@ func TestTrouble(t *testing.T) {
 	}
 }
 
-// TestCrashInTrouble: and it crashes; what was not filled to its end is filled again.
-func TestCrashInTrouble(t *testing.T) {
-	var n numbers
-	for range 400 {
-		x := anyTried(t, &n)
-		for range 5 {
-			for range n.below(12) {
-				x.live(1)
-				x.trouble(&n)
-			}
-			x.stumble()
-			x.anew()
-			for range n.below(4) {
-				x.some(n.below(50))
-				x.trouble(&n)
-			}
-			x.settle()
-		}
-	}
-}
-
-// anew sets new disks in where some have failed, as may be while the volume is not there.
-func (x *tried) anew() {
-	for disk := range x.media {
-		if x.media[disk].failed && x.n.below(2) == 0 && !x.awaits(disk) && x.stood[disk] == api.Current {
-			x.renewMedium(disk)
-		}
-	}
-}
-
 // TestCrashWhileFilling: at any moment of the filling of two disks; then the old ones, or these, are lost.
 func TestCrashWhileFilling(t *testing.T) {
 	var n numbers
 	for moment := range 90 {
 		for _, lost := range [][]int{nil, {1}, {3}, {1, 3}} {
-			x := newTried(newBench(t, 5, 2, anyOf(&n)), &n)
-			x.settle()
-			x.memory.sure = x.fill(&n)
+			x := settled(t, &n, 5, 2)
 			for _, disk := range []int{1, 3} {
 				x.fail(disk)
 				x.replace(disk)
