@@ -6,7 +6,8 @@ import (
 	"platter/stripe"
 )
 
-// scrubbing holds the columns of a stripe against each other.
+// scrubbing holds the columns of a stripe against each other. The column that is wrong is written without a record
+// of it: if a crash tears it, it is still the one column that is wrong, and the next Scrub finds it.
 type scrubbing struct {
 	work
 	stripe int
@@ -14,16 +15,26 @@ type scrubbing struct {
 }
 
 func (s *scrubbing) begin() {
+	if s.degraded() {
+		s.tell()
+		return
+	}
 	s.readStripe(s.stripe)
 	s.next = s.look
 }
 
+// degraded: with a column missing, the others can't tell which one of them is wrong.
+func (s *scrubbing) degraded() bool {
+	return len(s.volume.current()) < s.volume.disks()
+}
+
+// look asks for the disks anew: one may have failed since it was told to read.
 func (s *scrubbing) look() {
-	columns, missing := s.heardStripe(s.stripe)
-	if len(missing) > 0 {
+	if s.degraded() {
 		s.tell()
 		return
 	}
+	columns, _ := s.heardStripe(s.stripe)
 	verdict, column, value := stripe.Locate(columns)
 	s.found = api.Result{Verdict: verdict, Column: column}
 	if verdict != api.Repaired {
@@ -44,9 +55,9 @@ func (s *scrubbing) makeRepairSafe() {
 	s.next = s.tell
 }
 
-// tell looks at the disks last: the one that was to be repaired may have failed at that.
+// tell looks at the disks last: the one that was to be repaired, or another, may have failed at that.
 func (s *scrubbing) tell() {
-	if len(s.volume.current()) < s.volume.disks() {
+	if s.degraded() {
 		s.found = api.Result{E: api.ErrDegraded}
 	}
 	s.volume.finish(s.found)
